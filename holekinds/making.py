@@ -33,6 +33,14 @@ def kind_made(kind, hole):
     return NONE
 
 
+def table_made(table, hole):
+    """Tell the table of the book by the hole, however great it is."""
+    told = dict(table)
+    for name in table:
+        told[name_made(name, hole)] = kind_made(table[name], hole)
+    return told
+
+
 def hole_made(hole):
     """Tell the kind of the hole itself by the hole."""
     if hole == THING:

@@ -148,3 +148,32 @@ def odd_things():
         nested((), lambda told: {1: told}, 290), nested(0, lambda told: (told, told), 290),
         nested(("thing",), lambda told: ("pair", told, told), 290), "\ud800", "\u00c9", "Row\u00b2",
     ]
+
+
+# Books of every sort, each with kinds of which values are looked through.
+TREES = (("Tree", either(UNIT, pair(name("Tree"), pair(THING, name("Tree"))))),)
+ROSES = (
+    ("Roses", either(UNIT, pair(name("Stem"), name("Roses")))), ("Stem", pair(THING, name("Roses"))))
+BOXES = (("Box", name("Row")), ("Row", either(pair(name("Box"), THING), UNIT)), ("Twin", name("Box")))
+LOST = (
+    ("Lost", pair(THING, name("Lost"))),
+    ("Some", either(name("Lost"), pair(THING, either(UNIT, name("Some"))))))
+IDLES = (("Again", name("Idle")), ("Idle", either(THING, name("Again"))))
+ROUND = (("A", name("B")), ("B", name("A")), ("C", either(name("A"), pair(name("D"), name("D")))), ("D", UNIT))
+FLATS = (("Bit", either(UNIT, UNIT)), ("Pair", pair(THING, name("Bit"))))
+
+SAMPLES = [
+    ((), THING), ((), UNIT), ((), NONE), ((), pair(THING, pair(THING, THING))),
+    ((), either(pair(THING, UNIT), either(THING, NONE))), ((), pair(either(THING, UNIT), either(UNIT, THING))),
+    (ROWS, name("Row")), (ROWS, ROW), (ROWS, pair(name("Row"), pair(THING, name("Row")))),
+    (ROWS, either(NONE, name("Row"))), (ROWS_BY_ALL, name("Row'")), (ROWS_BY_ALL, name("Row'Row")),
+    (ROWS_BY_ALL, ROW_BY_THING_BY_ROW), (TREES, name("Tree")), (ROSES, name("Roses")),
+    (ROSES, pair(name("Stem"), THING)), (BOXES, name("Twin")), (BOXES, either(name("Row"), name("Box"))),
+    (LOST, name("Some")), (LOST, name("Lost")), (LOST, either(UNIT, name("Lost"))), (IDLES, name("Idle")),
+    (IDLES, pair(name("Again"), name("Idle"))), (ROUND, name("C")), (ROUND, name("A")),
+    (FLATS, name("Pair")), (FLATS, pair(name("Bit"), pair(name("Bit"), THING)))]
+
+
+def holes_of(book):
+    """All HOLEs of the BOOK."""
+    return [THING] + [name(one) for one, kind in book if "'" not in one]

@@ -16,6 +16,14 @@ STATEMENTS = (
     ast.Pass, ast.Raise, ast.Try, ast.Expr, ast.FunctionDef, ast.ClassDef, ast.ImportFrom)
 
 
+METHODS = {
+    "append", "count", "extend", "find", "get", "items", "join", "pop", "rfind", "rpartition", "split"}
+BARRED = {
+    "mro", "elements", "open", "input", "law", "register", "compile", "copyright", "credits", "dir", "eval",
+    "exec", "exit", "gc", "globals", "help", "id", "license", "locals", "os", "quit", "sys", "vars", "sort",
+    "format", "args", "encode", "decode", "hex", "fromhex"}
+
+
 def text_of(file):
     with open(os.path.join(FOLDER, file), encoding="utf-8") as held:
         return held.read()
@@ -34,6 +42,17 @@ def names_bound(tree):
         elif isinstance(node, ast.Name) and isinstance(node.ctx, ast.Store):
             bound.add(node.id)
     return bound
+
+
+def names_inside(tree):
+    """Every parameter and every variable of a function."""
+    told = {node.arg for node in ast.walk(tree) if isinstance(node, ast.arg)}
+    for function in ast.walk(tree):
+        if isinstance(function, ast.FunctionDef):
+            told.update(
+                node.id for node in ast.walk(function)
+                if isinstance(node, ast.Name) and isinstance(node.ctx, ast.Store))
+    return told
 
 
 class TestLanguage(unittest.TestCase):
@@ -83,6 +102,66 @@ class TestLanguage(unittest.TestCase):
             self.assertEqual(bound & set(dir(builtins)), set(), file)
             read = {node.id for node in ast.walk(tree) if isinstance(node, ast.Name)}
             self.assertLessEqual(read - bound, BUILTINS, file)
+
+    def test_no_variable_has_the_name_of_an_import_or_a_class(self):
+        for file in FILES:
+            tree = ast.parse(text_of(file))
+            taken = {node.name for node in ast.walk(tree) if isinstance(node, ast.ClassDef)}
+            for node in ast.walk(tree):
+                if isinstance(node, ast.ImportFrom):
+                    taken.update(one.name for one in node.names)
+            self.assertEqual(names_inside(tree) & taken, set(), file)
+
+    def test_imports_name_the_file_that_defines_the_name_and_lead_in_no_circle(self):
+        leads = {}
+        for file in FILES:
+            leads[file] = set()
+            for node in ast.walk(ast.parse(text_of(file))):
+                if isinstance(node, ast.ImportFrom):
+                    there = node.module.split(".")[1] + ".py"
+                    leads[file].add(there)
+                    tops = ast.parse(text_of(there)).body
+                    bound = {one.name for one in tops if isinstance(one, (ast.FunctionDef, ast.ClassDef))}
+                    bound.update(one.targets[0].id for one in tops if isinstance(one, ast.Assign))
+                    self.assertLessEqual({one.name for one in node.names}, bound, file)
+        for _ in FILES:
+            leads = {file: there.union(*[leads[one] for one in there]) for file, there in leads.items()}
+        self.assertEqual([file for file in FILES if file in leads[file]], [])
+
+    def test_names_methods_and_attributes(self):
+        trees = [ast.parse(text_of(file)) for file in FILES]
+        own = {
+            one.name for tree in trees for node in ast.walk(tree) if isinstance(node, ast.ClassDef)
+            for one in node.body if isinstance(one, ast.FunctionDef)}
+        for file, tree in zip(FILES, trees):
+            self.assertEqual(names_bound(tree) & BARRED, set(), file)
+            for node in ast.walk(tree):
+                if isinstance(node, ast.Attribute):
+                    self.assertNotIn(node.attr, BARRED, file)
+                if isinstance(node, ast.Call) and isinstance(node.func, ast.Attribute):
+                    self.assertIn(node.func.attr, METHODS | own, file)
+                if isinstance(node, ast.Call) and isinstance(node.func, ast.Name) and node.func.id in BUILTINS:
+                    self.assertLessEqual({one.arg for one in node.keywords}, {"key", "reverse"}, file)
+
+    def test_is_stands_beside_none_alone(self):
+        for file in FILES:
+            for node in ast.walk(ast.parse(text_of(file))):
+                if isinstance(node, ast.Compare) and isinstance(node.ops[0], (ast.Is, ast.IsNot)):
+                    self.assertEqual([one.value for one in node.comparators], [None], file)
+
+    def test_texts(self):
+        for file in FILES:
+            for node in ast.walk(ast.parse(text_of(file))):
+                if isinstance(node, ast.Constant) and isinstance(node.value, str):
+                    self.assertNotIn("%", node.value, file)
+                    self.assertFalse(node.value.startswith("__"), file)
+
+    def test_a_dict_at_a_file_s_top_is_none(self):
+        for file in FILES:
+            for node in ast.parse(text_of(file)).body:
+                self.assertIsInstance(node, (ast.Expr, ast.ImportFrom, ast.FunctionDef, ast.ClassDef, ast.Assign))
+                if isinstance(node, ast.Assign):
+                    self.assertNotIsInstance(node.value, (ast.Dict, ast.List, ast.Set, ast.Call), file)
 
 
 if __name__ == "__main__":
