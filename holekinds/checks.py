@@ -1,8 +1,9 @@
 """What is asked of arguments: beside a checked BOOK, which is passed as its table."""
 
 from holekinds.books import check_kind, has_kind, is_empty, is_known_hole, is_whole_number, table_of
-from holekinds.errors import InvalidHole, InvalidValue
+from holekinds.errors import InvalidHole, InvalidValue, NoSpot
 from holekinds.making import kind_made, table_made
+from holekinds.ways import way_to
 
 
 def table_for(book, kind):
@@ -40,3 +41,16 @@ def check_shape(table, kind, shape):
 def check_context(table, kind, hole, context):
     """Refuse what is no context of the KIND by the HOLE."""
     check_value(table_made(table, hole), kind_made(kind, hole), context)
+
+
+def spot_found(table, kind, hole, value, path):
+    """Tell the way to the spot of the value and the part there; refuse what is no spot, whatever it is."""
+    found = way_to(table, kind, hole, value, path) if is_path(path) else None
+    if found is None:
+        raise NoSpot(path)
+    return found
+
+
+def is_path(path):
+    """Tell whether it is a tuple of whole numbers: True, which Python takes for 1, is none."""
+    return type(path) == tuple and all([is_whole_number(index) for index in path])

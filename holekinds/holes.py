@@ -1,11 +1,10 @@
 """Kinds by holes, spots, contexts: marking, filling, and what a value measures."""
 
-from holekinds.books import is_whole_number, table_of
-from holekinds.checks import check_context, check_hole, check_value, table_for, table_for_hole
-from holekinds.errors import NoSpot
+from holekinds.books import table_of
+from holekinds.checks import check_context, check_hole, check_value, spot_found, table_for, table_for_hole
 from holekinds.making import kind_made, table_made
-from holekinds.values import parts_met, size_of, things_of
-from holekinds.ways import context_along, path_along, value_along, way_of, way_to
+from holekinds.values import size_of, things_of
+from holekinds.ways import context_along, path_along, paths_to, value_along, way_of
 
 
 def kind_by(book, kind, hole):
@@ -25,17 +24,14 @@ def spots(book, kind, hole, value):
     """Tell the paths of all spots of the HOLE in the value, in order."""
     table = table_for_hole(book, kind, hole)
     check_value(table, kind, value)
-    return tuple([path for part_kind, _, path in parts_met(table, kind, value) if part_kind == hole])
+    return tuple(paths_to(table, kind, hole, value))
 
 
 def mark(book, kind, hole, value, path):
     """Tell the context and the part of the spot of the value."""
     table = table_for_hole(book, kind, hole)
     check_value(table, kind, value)
-    found = way_to(table, kind, hole, value, path) if is_path(path) else None
-    if found is None:
-        raise NoSpot(path)
-    way, part = found
+    way, part = spot_found(table, kind, hole, value, path)
     return context_along(way, hole), part
 
 
@@ -66,8 +62,3 @@ def things(book, kind, value):
     table = table_for(book, kind)
     check_value(table, kind, value)
     return things_of(table, kind, value)
-
-
-def is_path(path):
-    """Tell whether it is a tuple of whole numbers: True, which Python takes for 1, is none."""
-    return type(path) == tuple and all([is_whole_number(index) for index in path])

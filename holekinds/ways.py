@@ -7,6 +7,12 @@ Marking, filling and spots are all told by the way alone.
 """
 
 from holekinds.making import THING
+from holekinds.values import parts_met
+
+
+def paths_to(table, kind, hole, value):
+    """List the paths of all spots of the HOLE in the value, in order."""
+    return [path for part_kind, _, path in parts_met(table, kind, value) if part_kind == hole]
 
 
 def way_to(table, kind, hole, value, path):
@@ -84,14 +90,19 @@ def path_along(way):
 def value_along(way, part):
     """Tell the value that has the part at the end of the way."""
     value = part
-    for word, beside in reversed(way):
-        if word == "first":
-            value = ("pair", value, beside)
-        elif word == "second":
-            value = ("pair", beside, value)
-        elif word != "within":
-            value = (word, value)
+    for step in reversed(way):
+        value = value_around(step, value)
     return value
+
+
+def value_around(step, value):
+    """Tell the value into which the step goes, to the value told."""
+    word, beside = step
+    if word == "first":
+        return "pair", value, beside
+    if word == "second":
+        return "pair", beside, value
+    return value if word == "within" else (word, value)
 
 
 def context_along(way, hole):

@@ -83,6 +83,152 @@ def put(value, path, part):
     return value[:path[0]] + (put(value[path[0]], path[1:], part),) + value[path[0] + 1:]
 
 
+def fill(book, kind, hole, context, part):
+    """The value of the context with the part; nothing is asked of the part."""
+    if kind == hole:
+        if hole == THING or context[0] == "left":
+            return part
+        return fill(book, kind_of(book, hole[1]), hole, context[1], part)
+    if kind[0] == "name":
+        return fill(book, kind_of(book, kind[1]), hole, context, part)
+    side, inner = context
+    if kind[0] == "either":
+        return side, fill(book, kind[1] if side == "left" else kind[2], hole, inner, part)
+    if side == "left":
+        return "pair", fill(book, kind[1], hole, inner[1], part), inner[2]
+    return "pair", inner[1], fill(book, kind[2], hole, inner[2], part)
+
+
+# [C1] to [C4], all told by the whole value and the paths of its spots
+
+def cursors(book, kind, hole, value):
+    return [mark(book, kind, hole, value, path) for path in spots(book, kind, hole, value)]
+
+
+def begins(path, other):
+    return other[:len(path)] == path
+
+
+def path_led(book, kind, hole, value, path, word):
+    """The path to which the deed of this word leads from the spot at the path; None for nowhere."""
+    told = spots(book, kind, hole, value)
+    at = told.index(path)
+    outer = [one for one in told if one != path and begins(one, path)]
+    inner = [one for one in told if one != path and begins(path, one)]
+    lists = {
+        "next": told[at + 1:at + 2], "former": told[at - 1:at] if at else [], "first": told[:1],
+        "last": told[-1:], "out": outer[-1:], "in": inner[:1]}
+    return lists[word][0] if lists[word] else None
+
+
+def behind_deeds(book, kind, hole, value, path, deeds):
+    """The value and the path behind the deeds, and which of these led anywhere."""
+    kept, led = [], []
+    for deed in deeds:
+        if deed == ("undo",):
+            led.append(bool(kept))
+            value, path = kept.pop() if kept else (value, path)
+            continue
+        if deed[0] == "put":
+            behind = (put(value, path, deed[1]), path)
+        else:
+            behind = (value, path_led(book, kind, hole, value, path, deed[0]))
+        led.append(behind[1] is not None)
+        if behind[1] is not None:
+            kept.append((value, path))
+            value, path = behind
+    return value, path, led
+
+
+# [C5]
+
+def are_apart(path, second):
+    return not begins(path, second) and not begins(second, path)
+
+
+def mark_two(book, kind, hole, other, value, path, second):
+    """The context with both holes and both parts; where the second spot is now is looked for."""
+    by_hole, kind_made = book_by(book, hole), kind_by(kind, hole)
+    context, part = mark(book, kind, hole, value, path)
+    gone = object()
+    for there in spots(by_hole, kind_made, other, context):
+        two, second_part = mark(by_hole, kind_made, other, context, there)
+        if fill_two(book, kind, hole, other, two, part, gone) == put(value, second, gone):
+            return two, part, second_part
+    return None
+
+
+def fill_two(book, kind, hole, other, two, part, second_part):
+    context = fill(book_by(book, hole), kind_by(kind, hole), other, two, second_part)
+    return fill(book, kind, hole, context, part)
+
+
+# [E1], [E2]
+
+def joined(word, first, second):
+    told = {
+        "plus": first + second, "times": first * second, "greater": max(first, second), "less": first - second}
+    return told[word]
+
+
+def fold(book, algebra, kind, rule, value):
+    if kind == THING:
+        return rule[1] * value + rule[2]
+    if kind == UNIT:
+        return rule[1]
+    if kind[0] == "name":
+        inner = fold(book, algebra, kind_of(book, kind[1]), kind_of(algebra, kind[1]), value)
+        return rule[1] * inner + rule[2]
+    if kind[0] == "either":
+        at = 1 if value[0] == "left" else 2
+        return fold(book, algebra, kind[at], rule[at], value[1])
+    first, second = [fold(book, algebra, kind[at], rule[at], value[at]) for at in (1, 2)]
+    return joined(rule[0], first, second)
+
+
+def fold_around(book, algebra, kind, rule, hole, context, number):
+    if kind == hole and (hole == THING or context[0] == "left"):
+        return rule[1] * number + rule[2]
+    if kind[0] == "name":
+        inner = context[1] if kind == hole else context
+        there = kind_of(book, kind[1]), kind_of(algebra, kind[1])
+        return rule[1] * fold_around(book, algebra, *there, hole, inner, number) + rule[2]
+    side, inner = context
+    if kind[0] == "either":
+        at = 1 if side == "left" else 2
+        return fold_around(book, algebra, kind[at], rule[at], hole, inner, number)
+    if side == "left":
+        first = fold_around(book, algebra, kind[1], rule[1], hole, inner[1], number)
+        return joined(rule[0], first, fold(book, algebra, kind[2], rule[2], inner[2]))
+    first = fold(book, algebra, kind[1], rule[1], inner[1])
+    return joined(rule[0], first, fold_around(book, algebra, kind[2], rule[2], hole, inner[2], number))
+
+
+# [E3]
+
+def states(book, algebra, kind, rule, value):
+    """All states from the first one to the last one, told by recursion."""
+    return list(states_around(book, algebra, kind, rule, value, ()))
+
+
+def states_around(book, algebra, kind, rule, value, frames):
+    """The states from going into the value until its answer, within the frames."""
+    yield ("value", kind, rule, value), frames
+    if kind[0] == "name":
+        frame = ("name", kind[1], rule[1], rule[2])
+        there = kind_of(book, kind[1]), kind_of(algebra, kind[1])
+        yield from states_around(book, algebra, *there, value, frames + (frame,))
+    elif kind[0] == "either":
+        at = 1 if value[0] == "left" else 2
+        yield from states_around(book, algebra, kind[at], rule[at], value[1], frames + (("side", value[0]),))
+    elif kind[0] == "pair":
+        behind = ("behind", rule[0], kind[2], rule[2], value[2])
+        yield from states_around(book, algebra, kind[1], rule[1], value[1], frames + (behind,))
+        ahead = ("ahead", rule[0], fold(book, algebra, kind[1], rule[1], value[1]))
+        yield from states_around(book, algebra, kind[2], rule[2], value[2], frames + (ahead,))
+    yield ("answer", fold(book, algebra, kind, rule, value)), frames
+
+
 # [B5]
 
 def size(book, kind, value):

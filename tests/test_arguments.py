@@ -6,9 +6,13 @@ import unittest
 
 from holekinds import errors
 from holekinds.counts import counts, is_fair, number_of, shape, shape_of, shapes
+from holekinds.cursors import (
+    behind_deeds, context_within, cursors, first_within, former_one, next_one, out_of)
+from holekinds.folds import fold, fold_around, fold_of_part
 from holekinds.holes import book_by, fill, kind_by, mark, size, spot_of, spots, things
 from holekinds.text import (
     read_book, read_kind, read_shape, read_value, show_book, show_kind, show_shape, show_value)
+from holekinds.twoholes import fill_two, mark_two, spots_of_two, turned_about
 from tests.samples import (
     NONE, ROWS, THING, UNIT, Odd, OddText, OddTuple, deep_kind, either, name, odd_things, pair, wide_kind)
 
@@ -17,14 +21,22 @@ ROW = name("Row")
 VALUE = ("right", ("pair", 5, LEAF))
 SHAPE = ("right", ("pair", (), LEAF))
 CONTEXT = ("right", ("left", ("pair", (), LEAF)))
+CONTEXT_BY_ROW = ("right", ("right", ("right", ("pair", 5, LEAF))))
+TWO = ("right", ("left", ("right", ("pair", (), LEAF))))
+RULE = ("answer", 2, 1)
+ALGEBRA = (("Row", ("case", ("number", 0), ("plus", ("take", 1, 0), ("answer", 1, 0)))),)
 
 # What is passed where it is right, in each function's order.
 RIGHT = {
     "book": ROWS, "kind": ROW, "hole": THING, "value": VALUE, "path": (1, 1), "context": CONTEXT, "part": 5,
-    "shape": SHAPE, "things": 1, "size": 2, "number": 0}
+    "shape": SHAPE, "things": 1, "size": 2, "number": 0, "deeds": (("next",), ("put", 5)), "inner": CONTEXT_BY_ROW,
+    "other": ROW, "second": (1, 2), "two": TWO, "second_part": LEAF, "algebra": ALGEBRA, "rule": RULE}
+RIGHT_FOR = {(context_within, "hole"): ROW, (context_within, "context"): LEAF}
 FUNCTIONS = [
     kind_by, book_by, spots, mark, fill, spot_of, size, things, counts, is_fair, shape_of, number_of, shapes,
-    shape, show_book, show_value, show_shape, show_kind, read_value, read_shape, read_kind, read_book]
+    shape, show_book, show_value, show_shape, show_kind, read_value, read_shape, read_kind, read_book, cursors,
+    next_one, former_one, out_of, first_within, context_within, behind_deeds, mark_two, fill_two, spots_of_two,
+    turned_about, fold, fold_of_part, fold_around]
 TEXTS = {read_kind: "thing", read_book: "A = thing;", read_value: "left(())", read_shape: "left(())"}
 
 BOOKS = [
@@ -50,11 +62,31 @@ WRONG = {
     "things": ("InvalidNumber", [True, False, -1, 21, 10 ** 399, None, "1", (), [1], Odd()]),
     "size": ("InvalidNumber", [True, False, -1, 21, 10 ** 399, None, "1", (), [1], Odd()]),
     "number": ("InvalidNumber", [True, False, -1, -10 ** 399, None, "1", (), [1], Odd()]),
-    "path": ("NoSpot", [(), (1,), (1, 1, 1), (True, 1), [1, 1], None, 5, "11", Odd(), (1, Odd())])}
+    "path": ("NoSpot", [(), (1,), (1, 1, 1), (True, 1), [1, 1], None, 5, "11", Odd(), (1, Odd())]),
+    "second": ("NoSpot", [(1,), (1, 1), (True, 2), [1, 2], None, 5, "12", Odd(), (1, Odd())]),
+    "other": ("InvalidHole", HOLES),
+    "inner": ("InvalidValue", VALUES + [VALUE, SHAPE, CONTEXT, ("right", CONTEXT_BY_ROW)]),
+    "two": ("InvalidValue", VALUES + [VALUE, SHAPE, LEAF, CONTEXT, CONTEXT_BY_ROW, ("right", TWO)]),
+    "second_part": ("InvalidValue", VALUES + [SHAPE, CONTEXT]),
+    "rule": ("InvalidRule", odd_things() + [
+        ("answer", 1), ("answer", True, 1), ["answer", 1, 0], ("take", 1, 0), ("answer", 1, 0, 0), ALGEBRA[0][1]]),
+    "deeds": ("InvalidDeeds", [
+        (None, None), ([("next",)], None), ((("next",),) * 201, None), (Odd(), None), (("next",), 0), ((None,), 0),
+        ((("next",), ("put", True)), 1), ((("in",), ("last",), ("Out",), ("put",)), 2)]),
+    "algebra": ("InvalidAlgebra", [
+        (None, None), (list(ALGEBRA), None), (dict(ALGEBRA), None), (Odd(), None), ((), None), (ALGEBRA * 2, None),
+        ((None,), 0), ((("Row", RULE),), 0), ((("Rows", ALGEBRA[0][1]),), 0), ((list(ALGEBRA[0]),), 0)])}
+INDEXED = ["InvalidBook", "InvalidDeeds", "InvalidAlgebra"]
+WRONG_FOR = {
+    (context_within, "hole"): ("InvalidHole", [THING] + HOLES),
+    (context_within, "context"): ("InvalidValue", VALUES + [VALUE, SHAPE, CONTEXT]),
+    (fold_around, "number"): ("InvalidNumber", [True, False, None, "1", (), [1], Odd()])}
 
 
 def right_of(function, parameter):
-    return TEXTS[function] if parameter == "text" else RIGHT[parameter]
+    if parameter == "text":
+        return TEXTS[function]
+    return RIGHT_FOR.get((function, parameter)) or RIGHT[parameter]
 
 
 class TestArguments(unittest.TestCase):
@@ -62,7 +94,7 @@ class TestArguments(unittest.TestCase):
         with self.assertRaises(errors.HoleError) as held:
             function(**arguments)
         self.assertEqual(type(held.exception).__name__, word, function)
-        if word == "InvalidBook":
+        if word in INDEXED:
             self.assertEqual(held.exception.index, index)
         elif word == "InvalidText":
             self.assertEqual((held.exception.line, held.exception.column), (None, None))
@@ -75,8 +107,8 @@ class TestArguments(unittest.TestCase):
             return [("InvalidText", one, None) for one in odd_things() if type(one) is not str]
         if function == show_kind:
             return [("InvalidKind", one, None) for one in NO_KINDS]
-        word, told = WRONG[parameter]
-        if parameter == "book":
+        word, told = WRONG_FOR.get((function, parameter)) or WRONG[parameter]
+        if word in INDEXED:
             return [(word, one, index) for one, index in told]
         return [(word, one, None) for one in told]
 

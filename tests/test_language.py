@@ -17,7 +17,7 @@ STATEMENTS = (
 
 
 METHODS = {
-    "append", "count", "extend", "find", "get", "items", "join", "pop", "rfind", "rpartition", "split"}
+    "append", "count", "extend", "find", "get", "items", "join", "partition", "pop", "rfind", "rpartition", "split"}
 BARRED = {
     "mro", "elements", "open", "input", "law", "register", "compile", "copyright", "credits", "dir", "eval",
     "exec", "exit", "gc", "globals", "help", "id", "license", "locals", "os", "quit", "sys", "vars", "sort",
@@ -39,6 +39,8 @@ def names_bound(tree):
             bound.update(one.name for one in node.names)
         elif isinstance(node, ast.arg):
             bound.add(node.arg)
+        elif isinstance(node, ast.ExceptHandler) and node.name is not None:
+            bound.add(node.name)
         elif isinstance(node, ast.Name) and isinstance(node.ctx, ast.Store):
             bound.add(node.id)
     return bound
@@ -156,12 +158,63 @@ class TestLanguage(unittest.TestCase):
                     self.assertNotIn("%", node.value, file)
                     self.assertFalse(node.value.startswith("__"), file)
 
-    def test_a_dict_at_a_file_s_top_is_none(self):
+    def test_what_stands_at_a_file_s_top(self):
         for file in FILES:
+            defined = set()
             for node in ast.parse(text_of(file)).body:
                 self.assertIsInstance(node, (ast.Expr, ast.ImportFrom, ast.FunctionDef, ast.ClassDef, ast.Assign))
+                if isinstance(node, (ast.FunctionDef, ast.ClassDef)):
+                    defined.add(node.name)
                 if isinstance(node, ast.Assign):
-                    self.assertNotIsInstance(node.value, (ast.Dict, ast.List, ast.Set, ast.Call), file)
+                    self.assertNotIsInstance(node.value, (ast.List, ast.Set, ast.Call), file)
+                if isinstance(node, ast.Assign) and isinstance(node.value, ast.Dict):
+                    # A dict has plain values, or functions that are defined ahead of it.
+                    for key, worth in zip(node.value.keys, node.value.values):
+                        self.assertIsInstance(key, ast.Constant, file)
+                        self.assertIsInstance(worth, (ast.Constant, ast.Name), file)
+                        if isinstance(worth, ast.Name):
+                            self.assertIn(worth.id, defined, file)
+
+    def test_each_name_is_bound_once_at_a_file_s_top(self):
+        for file in FILES:
+            bound = []
+            for node in ast.parse(text_of(file)).body:
+                if isinstance(node, (ast.FunctionDef, ast.ClassDef)):
+                    bound.append(node.name)
+                elif isinstance(node, ast.ImportFrom):
+                    bound.extend(one.name for one in node.names)
+                elif isinstance(node, ast.Assign):
+                    bound.append(node.targets[0].id)
+            self.assertEqual(len(bound), len(set(bound)), file)
+
+    def test_no_name_is_a_method_and_an_attribute(self):
+        methods, attributes = set(), set()
+        for file in FILES:
+            for node in ast.walk(ast.parse(text_of(file))):
+                if isinstance(node, ast.ClassDef):
+                    methods.update(one.name for one in node.body if isinstance(one, ast.FunctionDef))
+                if isinstance(node, ast.Attribute) and isinstance(node.ctx, ast.Store):
+                    self.assertIsInstance(node.value, ast.Name, file)
+                    attributes.add(node.attr)
+        self.assertEqual(methods & attributes, set())
+        self.assertEqual(attributes & (METHODS - {"count", "find", "get", "join", "split"}), set())
+
+    def test_what_a_caught_error_is_asked(self):
+        for file in FILES:
+            for node in ast.walk(ast.parse(text_of(file))):
+                if isinstance(node, ast.ExceptHandler):
+                    self.assertIsInstance(node.type, ast.Name, file)
+                    self.assertTrue(node.type.id.startswith(("Invalid", "HoleError")), file)
+                    asked = {id(one.value) for one in ast.walk(node) if isinstance(one, ast.Attribute)}
+                    for one in ast.walk(node):
+                        if isinstance(one, ast.Name) and one.id == node.name:
+                            self.assertIn(id(one), asked, file)
+
+    def test_what_is_assigned_to_no_use_is_not_read(self):
+        for file in FILES:
+            for node in ast.walk(ast.parse(text_of(file))):
+                if isinstance(node, ast.Name) and node.id == "_":
+                    self.assertIsInstance(node.ctx, ast.Store, file)
 
 
 if __name__ == "__main__":

@@ -1,4 +1,4 @@
-"""The session of examples in the interface, as it stands there, and those of README.md."""
+"""The sessions of examples in the interface, as they stand there, and those of README.md."""
 
 import doctest
 import os
@@ -32,6 +32,43 @@ NoSpot(given=(2,))
 >>> loop = ("name", "Loop")
 >>> [is_fair(book, row), is_fair((("Loop", ("either", unit, loop)),), loop), is_fair((("Loop", ("pair", unit, loop)),), loop)]
 [True, False, True]
+>>> from holekinds.cursors import behind_deeds, context_within, cursors, first_within, former_one, next_one, out_of
+>>> thing, unit = ("thing",), ("unit",)
+>>> trees = (("Tree", ("either", unit, ("pair", ("name", "Tree"), ("pair", thing, ("name", "Tree"))))),)
+>>> tree, leaf = ("name", "Tree"), ("left", ())
+>>> small = ("right", ("pair", leaf, ("pair", 1, leaf)))
+>>> two = ("right", ("pair", small, ("pair", 2, leaf)))
+>>> [len(cursors(trees, tree, thing, two)), len(cursors(trees, tree, tree, two)), [part for context, part in cursors(trees, tree, thing, two)]]
+[2, 5, [1, 2]]
+>>> whole = cursors(trees, tree, tree, two)[0]
+>>> [whole == (("left", ()), two), next_one(trees, tree, tree, *whole)[1] == small, former_one(trees, tree, tree, *whole), out_of(trees, tree, tree, *next_one(trees, tree, tree, *whole)) == whole]
+[True, True, None, True]
+>>> below = first_within(trees, tree, tree, *whole)
+>>> [below == next_one(trees, tree, tree, *whole), below[0]]
+[True, ('right', ('right', ('left', ('pair', ('left', ()), ('pair', 2, ('left', ()))))))]
+>>> [behind_deeds(trees, tree, tree, *whole, (("in",), ("put", leaf), ("out",)))[1] == ("right", ("pair", leaf, ("pair", 2, leaf))), behind_deeds(trees, tree, tree, *whole, (("in",), ("put", leaf), ("undo",), ("former",))) == whole]
+[True, True]
+>>> context_within(trees, tree, tree, below[0], ("left", ())) == below[0]
+True
+>>> raised(next_one, trees, tree, thing, (), 1)
+InvalidValue(given=())
+>>> from holekinds.twoholes import fill_two, mark_two, spots_of_two, turned_about
+>>> pair = ("pair", thing, thing)
+>>> there = mark_two((), pair, thing, thing, ("pair", 5, 6), (1,), (2,))
+>>> [there, turned_about((), pair, thing, thing, there[0])]
+[(('left', ('right', ('pair', (), ()))), 5, 6), ('right', ('left', ('pair', (), ())))]
+>>> [spots_of_two((), pair, thing, thing, there[0]), fill_two((), pair, thing, thing, there[0], 8, 9)]
+[((1,), (2,)), ('pair', 8, 9)]
+>>> raised(mark_two, trees, tree, tree, thing, two, (), (1, 2, 1))
+NotApart(given=(1, 2, 1))
+>>> from holekinds.folds import fold, fold_around, fold_of_part, is_algebra, is_rule
+>>> own, total = ("answer", 1, 0), ("take", 1, 0)
+>>> sums = (("Tree", ("case", ("number", 0), ("plus", own, ("plus", total, own)))),)
+>>> heights = (("Tree", ("case", ("number", 0), ("greater", ("answer", 1, 1), ("greater", ("take", 0, 0), ("answer", 1, 1))))),)
+>>> [fold(trees, sums, tree, own, two), fold(trees, heights, tree, own, two), fold(trees, sums, tree, ("answer", 10, 1), two), is_algebra(trees, sums), is_rule(pair, ("plus", total, own))]
+[3, 2, 31, True, False]
+>>> [fold_of_part(trees, sums, tree, small), fold_around(trees, sums, tree, own, tree, below[0], 1), fold_around(trees, sums, tree, own, tree, below[0], 40)]
+[1, 3, 42]
 """
 README = os.path.join(os.path.dirname(os.path.dirname(os.path.abspath(__file__))), "README.md")
 
