@@ -9,7 +9,7 @@ from holekinds.values import built, kind_on_side
 
 
 class Bracket:
-    """What is read of a KIND since a bracket was opened, or since it began."""
+    """What is read of a KIND since a bracket was opened, or since a SINGLE began."""
 
     def __init__(self):
         self.first = None
@@ -31,51 +31,67 @@ class Bracket:
 
 def kind_read(reader):
     """Read a KIND, as long as it goes on."""
-    brackets = [Bracket()]
-    while True:
-        while reader.take("("):
-            brackets.append(Bracket())
-        brackets[-1].add_single(single_read(reader))
-        while len(brackets) > 1 and reader.take(")"):
-            inner = brackets.pop()
-            brackets[-1].add_single(inner.closed())
-        if not does_kind_go_on(reader, brackets):
-            return brackets[0].told
+    kind = single_read(reader)
+    while reader.take("|"):
+        kind = ("either", kind, single_read(reader))
+    return kind
 
 
 def single_read(reader):
-    """Read a SINGLE that does not begin with a bracket."""
+    """Read a SINGLE."""
+    brackets = [Bracket()]
+    read_on(reader, brackets)
+    while len(brackets) > 1:
+        go_on_in(reader, brackets[-1])
+        read_on(reader, brackets)
+    return brackets[0].told
+
+
+def read_on(reader, brackets):
+    """Read a SINGLE without a bracket, behind all that are opened, and close those that end behind it."""
+    while reader.take("("):
+        brackets.append(Bracket())
+    brackets[-1].add_single(leaf_read(reader))
+    while len(brackets) > 1 and reader.take(")"):
+        inner = brackets.pop()
+        brackets[-1].add_single(inner.closed())
+
+
+def leaf_read(reader):
+    """Read a SINGLE without a bracket."""
     if reader.form == "name":
-        return "name", reader.taken()
+        return "name", name_read(reader)
     if reader.token() not in ("thing", "none", "unit"):
         reader.refuse()
     return (reader.taken(),)
 
 
-def does_kind_go_on(reader, brackets):
-    """Take the sign behind which a SINGLE has to come; tell whether there is one."""
+def go_on_in(reader, bracket):
+    """Take the sign in the bracket behind which a SINGLE has to come."""
     if reader.take("|"):
-        return True
-    if len(brackets) == 1:
-        return False
-    if brackets[-1].first is not None:
+        return
+    if bracket.first is not None:
         reader.refuse()
     reader.expect(",")
-    brackets[-1].begin_second()
-    return True
+    bracket.begin_second()
 
 
 def pairs_read(reader):
-    """Read the pairs of a BOOK up to the end of the text, as they stand."""
+    """Read the pairs of a BOOK up to the end of the text; tell them in the order of their names."""
     pairs = []
     while reader.form != "end":
-        if reader.form != "name":
-            reader.refuse()
-        name = reader.taken()
+        name = name_read(reader)
         reader.expect("=")
         pairs.append((name, kind_read(reader)))
         reader.expect(";")
-    return pairs
+    return tuple(sorted(pairs, key=lambda row: row[0]))
+
+
+def name_read(reader):
+    """Read a name."""
+    if reader.form != "name":
+        reader.refuse()
+    return reader.taken()
 
 
 def value_read(reader, table, kind):

@@ -21,8 +21,7 @@ def read_kind(text):
 
 def read_book(text):
     """Tell the BOOK of the text, whose pairs may stand in any order."""
-    pairs = pairs_read(reader_of(text))
-    book = tuple(sorted(pairs, key=lambda row: row[0]))
+    book = pairs_read(reader_of(text))
     table_of(book)
     return book
 

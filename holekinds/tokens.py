@@ -53,6 +53,12 @@ class Reader:
         if not self.take(form):
             self.refuse()
 
+    def expect_word(self, word):
+        """Go on behind the word; refuse the text if another token stands here."""
+        if self.token() != word:
+            self.refuse()
+        self.step()
+
     def refuse(self):
         """Refuse the text where the token stands."""
         line = self.text.count("\n", 0, self.start) + 1

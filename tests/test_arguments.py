@@ -10,6 +10,7 @@ from holekinds.cursors import (
     behind_deeds, context_within, cursors, first_within, former_one, next_one, out_of)
 from holekinds.folds import fold, fold_around, fold_of_part
 from holekinds.holes import book_by, fill, kind_by, mark, size, spot_of, spots, things
+from holekinds.loops import end_of, loop, rounds_of, state
 from holekinds.text import (
     read_book, read_kind, read_shape, read_value, show_book, show_kind, show_shape, show_value)
 from holekinds.twoholes import fill_two, mark_two, spots_of_two, turned_about
@@ -30,13 +31,14 @@ ALGEBRA = (("Row", ("case", ("number", 0), ("plus", ("take", 1, 0), ("answer", 1
 RIGHT = {
     "book": ROWS, "kind": ROW, "hole": THING, "value": VALUE, "path": (1, 1), "context": CONTEXT, "part": 5,
     "shape": SHAPE, "things": 1, "size": 2, "number": 0, "deeds": (("next",), ("put", 5)), "inner": CONTEXT_BY_ROW,
-    "other": ROW, "second": (1, 2), "two": TWO, "second_part": LEAF, "algebra": ALGEBRA, "rule": RULE}
+    "other": ROW, "second": (1, 2), "two": TWO, "second_part": LEAF, "algebra": ALGEBRA, "rule": RULE,
+    "rounds": 3, "state": (("answer", 5), ())}
 RIGHT_FOR = {(context_within, "hole"): ROW, (context_within, "context"): LEAF}
 FUNCTIONS = [
     kind_by, book_by, spots, mark, fill, spot_of, size, things, counts, is_fair, shape_of, number_of, shapes,
     shape, show_book, show_value, show_shape, show_kind, read_value, read_shape, read_kind, read_book, cursors,
     next_one, former_one, out_of, first_within, context_within, behind_deeds, mark_two, fill_two, spots_of_two,
-    turned_about, fold, fold_of_part, fold_around]
+    turned_about, fold, fold_of_part, fold_around, state, loop, rounds_of, end_of]
 TEXTS = {read_kind: "thing", read_book: "A = thing;", read_value: "left(())", read_shape: "left(())"}
 
 BOOKS = [
@@ -70,12 +72,15 @@ WRONG = {
     "second_part": ("InvalidValue", VALUES + [SHAPE, CONTEXT]),
     "rule": ("InvalidRule", odd_things() + [
         ("answer", 1), ("answer", True, 1), ["answer", 1, 0], ("take", 1, 0), ("answer", 1, 0, 0), ALGEBRA[0][1]]),
+    "rounds": ("InvalidNumber", [True, False, -1, 100001, 10 ** 399, None, "1", (), [1], Odd()]),
     "deeds": ("InvalidDeeds", [
         (None, None), ([("next",)], None), ((("next",),) * 201, None), (Odd(), None), (("next",), 0), ((None,), 0),
         ((("next",), ("put", True)), 1), ((("in",), ("last",), ("Out",), ("put",)), 2)]),
     "algebra": ("InvalidAlgebra", [
         (None, None), (list(ALGEBRA), None), (dict(ALGEBRA), None), (Odd(), None), ((), None), (ALGEBRA * 2, None),
         ((None,), 0), ((("Row", RULE),), 0), ((("Rows", ALGEBRA[0][1]),), 0), ((list(ALGEBRA[0]),), 0)])}
+# Of a state to which no loop comes nothing is said.
+UNASKED = ["state"]
 INDEXED = ["InvalidBook", "InvalidDeeds", "InvalidAlgebra"]
 WRONG_FOR = {
     (context_within, "hole"): ("InvalidHole", [THING] + HOLES),
@@ -87,6 +92,11 @@ def right_of(function, parameter):
     if parameter == "text":
         return TEXTS[function]
     return RIGHT_FOR.get((function, parameter)) or RIGHT[parameter]
+
+
+def asked_of(function):
+    """The parameters of which something is asked."""
+    return [one for one in inspect.signature(function).parameters if one not in UNASKED]
 
 
 class TestArguments(unittest.TestCase):
@@ -122,7 +132,7 @@ class TestArguments(unittest.TestCase):
     def test_each_wrong_by_itself(self):
         for function in FUNCTIONS:
             parameters = list(inspect.signature(function).parameters)
-            for parameter in parameters:
+            for parameter in asked_of(function):
                 for word, thing, index in self.wrong_ones(function, parameter):
                     arguments = {one: right_of(function, one) for one in parameters}
                     arguments[parameter] = thing
@@ -132,7 +142,7 @@ class TestArguments(unittest.TestCase):
         for function in FUNCTIONS:
             parameters = list(inspect.signature(function).parameters)
             for many in range(2, len(parameters) + 1):
-                for wrong in itertools.combinations(parameters, many):
+                for wrong in itertools.combinations(asked_of(function), many):
                     arguments = {one: right_of(function, one) for one in parameters}
                     for parameter in wrong:
                         arguments[parameter] = self.wrong_ones(function, parameter)[0][1]

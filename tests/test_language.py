@@ -101,7 +101,7 @@ class TestLanguage(unittest.TestCase):
         for file in FILES:
             tree = ast.parse(text_of(file))
             bound = names_bound(tree)
-            self.assertEqual(bound & set(dir(builtins)), set(), file)
+            self.assertEqual((bound - {"_"}) & set(dir(builtins)), set(), file)
             read = {node.id for node in ast.walk(tree) if isinstance(node, ast.Name)}
             self.assertLessEqual(read - bound, BUILTINS, file)
 

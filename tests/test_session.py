@@ -69,6 +69,28 @@ NotApart(given=(1, 2, 1))
 [3, 2, 31, True, False]
 >>> [fold_of_part(trees, sums, tree, small), fold_around(trees, sums, tree, own, tree, below[0], 1), fold_around(trees, sums, tree, own, tree, below[0], 40)]
 [1, 3, 42]
+>>> from holekinds.loops import end_of, loop, rounds_of, state
+>>> [loop((), (), pair, ("less", total, total), ("pair", 5, 6)), state((), (), pair, ("less", total, total), ("pair", 5, 6), 3)]
+[(-1, 5), (('value', ('thing',), ('take', 1, 0), 6), (('ahead', 'less', 5),))]
+>>> [loop(trees, sums, tree, own, two), rounds_of(trees, tree, two), [end_of(trees, sums, state(trees, sums, tree, own, two, many)) for many in (0, 7, 20, 37)]]
+[(3, 37), 37, [3, 3, 3, 3]]
+>>> from holekinds.certificates import certify_counts, certify_finite, certify_folds, certify_loop, certify_mark, certify_number, certify_spot
+>>> from holekinds.checker import accepts
+>>> from holekinds.desk import Desk
+>>> desk = Desk()
+>>> [desk.say("edit Row by thing: left(())"), desk.say("book Row = unit | (thing, Row);"), desk.say("edit Row by thing: right((5, right((7, left(())))))"), desk.say("next")]
+[('no kind',), ('1 name',), ('1.1: 5',), ('1.2.1.1: 7',)]
+>>> [desk.say("put 9"), desk.say("value"), desk.say("context"), desk.say("shape")]
+[('1.2.1.1: 9',), ('right((5, right((9, left(())))))',), ('right(right((5, right(left(((), left(())))))))',), ('right((*, right((*, left(())))))',)]
+>>> [desk.say("next"), desk.say("undo"), desk.say("spots"), desk.say("number"), desk.say("counts Row: 2, 3"), desk.say("fair Row'"), desk.say("put x"), desk.say("Next")]
+[('nowhere',), ('1.2.1.1: 7',), ('1.1', '1.2.1.1'), ('things 2, size 3, number 0',), ('1',), ('no kind',), ('bad text at 1 1',), ('no such line',)]
+>>> unit, idle = ("unit",), (("Idle", ("either", ("thing",), ("name", "Idle"))),)
+>>> claim, paper = certify_finite(idle, ("name", "Idle"))
+>>> [claim[0], accepts(claim, paper), accepts(claim, ("Idle", ("left", ()), ("right", ("right", ("left", ()))), ("left", ()))), accepts(("finite", claim[1], claim[2]), ())]
+['endless', True, True, False]
+>>> done = certify_loop((), ("pair", unit, unit), ("pair", (), ()))
+>>> [done[0][4], accepts(done[0], done[1]), accepts(("loops", (), unit, (), 2), ()), accepts(None, ())]
+[5, True, False, False]
 """
 README = os.path.join(os.path.dirname(os.path.dirname(os.path.abspath(__file__))), "README.md")
 
