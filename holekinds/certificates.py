@@ -1,7 +1,7 @@
 """Claims with the papers that show them."""
 
 from holekinds.books import table_of
-from holekinds.checks import check_context, check_hole, check_value, is_path
+from holekinds.checks import check_context, check_hole, is_path
 from holekinds.counts import counts, is_fair, number_of
 from holekinds.endless import endless_paper
 from holekinds.errors import InvalidBook, NoSpot
@@ -56,8 +56,6 @@ def certify_folds(book, algebra, kind, rule, hole, context, part, second):
     table, _ = tables_for_rule(book, algebra, kind, rule)
     check_hole(table, hole)
     check_context(table, kind, hole, context)
-    check_value(table, hole, part)
-    check_value(table, hole, second)
     things = (book, algebra, kind, rule, hole, part, second)
     one = fold_of_part(book, algebra, hole, part)
     other = fold_of_part(book, algebra, hole, second)

@@ -59,7 +59,7 @@ def fork_kept(table, kind, hole, other, two):
     steps = way_of(table_made(table, hole), kind_made(kind, hole), other, two)
     common = []
     kind, at = behind_names(table, kind, hole, 0)
-    while not is_fork(kind, steps, at):
+    while not is_fork(steps, at):
         at += 1 if kind[0] == "pair" else 0
         common.append(steps[at])
         kind, at = behind_names(table, kind_behind(steps[at][0], kind), hole, at + 1)
@@ -79,9 +79,9 @@ def behind_names(table, kind, hole, at):
     return kind, at
 
 
-def is_fork(kind, steps, at):
+def is_fork(steps, at):
     """Tell whether the steps in a context go into the part of a pair where its hole is not."""
-    return kind[0] == "pair" and (steps[at][0], steps[at + 1][0]) in (("left", "second"), ("right", "first"))
+    return (steps[at][0], steps[at + 1][0]) in (("left", "second"), ("right", "first"))
 
 
 def two_along(table, kind, hole, other, fork):

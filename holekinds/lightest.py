@@ -1,13 +1,11 @@
 """Shapes of KINDs of the least size, with things or without, and the names beside which they may stand."""
 
-from holekinds.values import kind_on_side
-
 
 class Lightest:
     """For each name of a table that has a shape, the least size of one, and such a shape.
 
-    Shapes are without things, unless things are let. Sizes are told beside all shapes, as no shape
-    that is as small as may be has to be looked into for its size.
+    Shapes are without things, unless things are let. A size is kept beside each shape: a shape that
+    has one part many times over may be too great to be looked through for it.
     """
 
     def __init__(self, table, lets_things):

@@ -63,7 +63,7 @@ def rules_within(kind, rule):
         return None
     if not all([is_whole_number(number) for number in rule[1:1 + numbers]]):
         return None
-    return list(zip(inner, rule[1 + numbers:]))
+    return list(zip(inner, rule[1:]))
 
 
 def form_beside(kind):

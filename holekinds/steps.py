@@ -32,7 +32,7 @@ def next_behind(table, kind, hole, way, part):
     below = first_below(table, hole, way, part)
     if below is not None:
         return below
-    kinds = kinds_along(table, kind, hole, way)
+    kinds = kinds_along(table, kind, way)
     value = part
     for at in reversed(range(len(way))):
         word, beside = way[at]
@@ -46,7 +46,7 @@ def next_behind(table, kind, hole, way, part):
 
 def former_ahead(table, kind, hole, way, part):
     """Tell the former cursor; None if there is none."""
-    kinds = kinds_along(table, kind, hole, way)
+    kinds = kinds_along(table, kind, way)
     value = part
     for at in reversed(range(len(way))):
         word, beside = way[at]
@@ -70,11 +70,13 @@ def nearest_around(way, part):
     return None
 
 
-def kinds_along(table, kind, hole, way):
-    """List the KINDs that the steps of the way go into, one for each step."""
+def kinds_along(table, kind, way):
+    """List the KINDs that the steps of the way go into, one for each step.
+
+    A step into a name goes nowhere else: its KIND is unfolded by the step behind it.
+    """
     kinds = []
     for word, _ in way:
-        into = hole if word == "within" else unfolded(table, kind)
-        kinds.append(into)
-        kind = table[hole[1]] if word == "within" else kind_behind(word, into)
+        kinds.append(unfolded(table, kind))
+        kind = kind if word == "within" else kind_behind(word, kinds[-1])
     return kinds

@@ -2,8 +2,7 @@
 
 from holekinds.checks import check_hole, check_value, spot_found, table_for_hole
 from holekinds.errors import NotApart
-from holekinds.forks import (
-    fork_at, fork_kept, indexes_in_common, paths_of_fork, turned, two_along, value_of_fork)
+from holekinds.forks import fork_at, fork_kept, indexes_in_common, paths_of_fork, turned, two_along, value_of_fork
 from holekinds.making import kind_made, table_made
 
 

@@ -4,6 +4,9 @@ from tests import reference
 from tests.samples import NONE, THING, UNIT
 
 WORDS = ["plus", "times", "greater", "less"]
+OWN, TOTAL = ("answer", 1, 0), ("take", 1, 0)
+ROW_SUM = ("case", ("number", 0), ("plus", TOTAL, OWN))
+SUMS = (("Row", ROW_SUM),)
 
 
 class Numbers:

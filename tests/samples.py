@@ -1,8 +1,11 @@
 """What several tests need: BOOKs, odd things to pass, and ways to build great KINDs."""
 
+from tests import reference
+
 THING = ("thing",)
 NONE = ("none",)
 UNIT = ("unit",)
+LEAF = ("left", ())
 
 
 def name(text):
@@ -177,3 +180,24 @@ SAMPLES = [
 def holes_of(book):
     """All HOLEs of the BOOK."""
     return [THING] + [name(one) for one, kind in book if "'" not in one]
+
+
+def samples_with_holes(most_things=2, most_size=4):
+    """Each sample with each hole of its book and each of its small values."""
+    for book, kind in SAMPLES:
+        values = reference.values(book, kind, most_things, most_size)
+        for hole in holes_of(book):
+            yield book, kind, hole, values
+
+
+def row_of(*told):
+    """The Row of these things."""
+    value = LEAF
+    for thing in reversed(told):
+        value = ("right", ("pair", thing, value))
+    return value
+
+
+def node(left, thing, right):
+    """The Tree of these two with the thing between."""
+    return ("right", ("pair", left, ("pair", thing, right)))

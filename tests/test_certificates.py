@@ -13,15 +13,12 @@ from holekinds.folds import fold_around, fold_of_part
 from holekinds.holes import book_by, kind_by, mark, size
 from holekinds.lightest import Lightest
 from tests import reference
-from tests.rules import samples_with_rules
+from tests.rules import OWN, SUMS, TOTAL, samples_with_rules
 from tests.samples import (
-    IDLES, NONE, ROUND, ROWS, ROWS_BY_ALL, ROWS_BY_THING, SAMPLES, THING, TREES, UNIT, Odd, either, holes_of,
-    name, nested, odd_things, pair)
+    IDLES, LEAF, NONE, ROUND, ROWS, ROWS_BY_ALL, ROWS_BY_THING, SAMPLES, THING, TREES, UNIT, Odd, either,
+    holes_of, name, nested, odd_things, pair)
 
-LEAF = ("left", ())
 ROW = name("Row")
-OWN, TOTAL = ("answer", 1, 0), ("take", 1, 0)
-SUMS = (("Row", ("case", ("number", 0), ("plus", TOTAL, OWN))),)
 VALUE = ("right", ("pair", 5, ("right", ("pair", 7, LEAF))))
 SHAPE = ("right", ("pair", (), LEAF))
 CONTEXT = ("right", ("left", ("pair", (), LEAF)))
@@ -230,6 +227,81 @@ class TestLightest(unittest.TestCase):
                     places = reference.things(book, kind, told[1])
                     self.assertIn(told[1], reference.shapes(book, kind, places, told[0]))
                     self.assertTrue(lets_things or places == 0)
+
+
+    def test_a_smaller_shape_that_is_found_later(self):
+        # A is known by B, which is great, ahead of C, which is known by D alone.
+        book = (
+            ("A", either(name("B"), name("C"))), ("Aa", UNIT), ("B", pair(name("Aa"), name("Aa"))), ("C", name("D")),
+            ("D", UNIT))
+        self.assertEqual(Lightest(dict(book), True).known["A"], (3, ("right", ())))
+
+
+class TestLeast(unittest.TestCase):
+    """Of all papers one is told that is as small as may be."""
+
+    def least_size(self, book, kind, first, most_things=6):
+        """The least size, from the first one on, of which there is a shape; None for none that is small."""
+        for at in range(first, 13):
+            if any(reference.counts(book, kind, there, at) for there in range(most_things + 1)):
+                return at
+        return None
+
+    def is_least(self, book, kind):
+        one, context, inner, part = endless_paper(dict(book), kind)
+        hole = name(one)
+        by_hole = reference.book_by(book, hole)
+        told = (
+            reference.size(by_hole, reference.kind_by(kind, hole), context)
+            + reference.size(by_hole, reference.kind_by(hole, hole), inner) + reference.size(book, hole, part))
+        sizes = []
+        for other, _ in book:
+            hole = name(other)
+            by_hole = reference.book_by(book, hole)
+            three = [
+                self.least_size(by_hole, reference.kind_by(kind, hole), 0),
+                self.least_size(by_hole, reference.kind_by(hole, hole), 1, 0), self.least_size(book, hole, 1)]
+            if None not in three:
+                sizes.append(sum(three))
+        self.assertEqual(told, min(sizes), (book, kind))
+
+    def test_two_names(self):
+        x, y = name("X"), name("Y")
+        sides = [UNIT, THING, pair(x, y), pair(UNIT, x), pair(y, THING), either(x, y), either(y, y), pair(x, x), x, y]
+        kinds = [either(*both) for both in itertools.product(sides, repeat=2)] + [pair(x, either(UNIT, y)), UNIT]
+        many = 0
+        for at, (first, second) in enumerate(itertools.product(kinds, repeat=2)):
+            book = (("X", first), ("Y", second))
+            if at % 19 == 0 and not reference.is_fair(book, x):
+                many += 1
+                for kind in [x, y, pair(y, x), either(pair(x, x), y)]:
+                    if not reference.is_fair(book, kind):
+                        self.is_least(book, kind)
+        self.assertGreater(many, 100)
+
+    def test_names_in_turn(self):
+        names = ["V", "W", "X", "Y", "Z"]
+        v, w, x, y, z = [name(one) for one in names]
+        sides = [UNIT, w, pair(x, y), pair(z, w), either(v, pair(y, y)), pair(either(z, UNIT), x), pair(v, THING)]
+        kinds = [either(*both) for both in itertools.product(sides, repeat=2)]
+        many = 0
+        for at in range(400):
+            told = [kinds[(at * 31 + time * time * 7 + at * at * (time + 1)) % len(kinds)] for time in range(5)]
+            book = tuple(zip(names, told))
+            for kind in [v, pair(w, z), either(y, pair(x, v))]:
+                if not reference.is_fair(book, kind):
+                    many += 1
+                    self.is_least(book, kind)
+        self.assertGreater(many, 100)
+
+    def test_the_nearer_way_of_two(self):
+        # Far leads to Idle by one name beside a great shape, or by two names beside none.
+        book = (
+            ("Far", either(pair(name("Five"), name("Idle")), name("Near"))), ("Five", pair(name("Four"), name("Two"))),
+            ("Four", pair(name("Two"), name("Two"))), ("Idle", either(UNIT, name("Idle"))), ("Near", name("Nearer")),
+            ("Nearer", name("Idle")), ("Two", name("Unit")), ("Unit", UNIT))
+        self.is_least(book, name("Far"))
+        self.assertEqual(endless_paper(dict(book), name("Far"))[1], ("right", LEAF))
 
 
 RIGHT = {

@@ -10,15 +10,12 @@ from holekinds.holes import book_by, fill, kind_by, mark, size, spots, things
 from holekinds.loops import rounds_of
 from holekinds.twoholes import mark_two, turned_about
 from tests import reference
-from tests.rules import samples_with_rules
+from tests.rules import OWN, SUMS, TOTAL, samples_with_rules
 from tests.samples import (
-    BOXES, IDLES, NONE, ROSES, ROUND, ROWS, ROWS_BY_THING, SAMPLES, THING, TREES, UNIT, Odd, OddText, OddTuple,
-    either, holes_of, name, nested, odd_things, pair)
+    BOXES, IDLES, LEAF, NONE, ROSES, ROUND, ROWS, ROWS_BY_THING, SAMPLES, THING, TREES, UNIT, Odd, OddText,
+    OddTuple, either, holes_of, name, nested, odd_things, pair)
 
-LEAF = ("left", ())
 ROW = name("Row")
-OWN, TOTAL = ("answer", 1, 0), ("take", 1, 0)
-SUMS = (("Row", ("case", ("number", 0), ("plus", TOTAL, OWN))),)
 VALUE = ("right", ("pair", 5, ("right", ("pair", 1, LEAF))))
 CONTEXT = ("right", ("left", ("pair", (), VALUE[1][2])))
 TWO = ("right", ("left", ("right", ("pair", (), ("right", ("left", ("pair", (), LEAF)))))))

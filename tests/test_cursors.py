@@ -9,30 +9,10 @@ from holekinds.errors import InvalidDeeds, InvalidHole, InvalidValue
 from holekinds.holes import book_by, fill, kind_by, mark, size, spot_of, spots
 from tests import reference
 from tests.samples import (
-    BOXES, IDLES, LOST, ROSES, ROUND, ROWS, ROWS_BY_ALL, SAMPLES, THING, TREES, UNIT, Odd, OddTuple,
-    either, holes_of, name, nested, odd_things, pair)
+    BOXES, IDLES, LEAF, LOST, ROSES, ROUND, ROWS, ROWS_BY_ALL, SAMPLES, THING, TREES, UNIT, Odd, OddTuple,
+    either, holes_of, name, nested, node, odd_things, pair, row_of, samples_with_holes)
 
-LEAF = ("left", ())
 WORDS = ["next", "former", "first", "last", "out", "in"]
-
-
-def row_of(*told):
-    value = LEAF
-    for thing in reversed(told):
-        value = ("right", ("pair", thing, value))
-    return value
-
-
-def node(left, thing, right):
-    return ("right", ("pair", left, ("pair", thing, right)))
-
-
-def samples_with_holes(most_things=2, most_size=4):
-    """Each sample with each hole of its book and each of its small values."""
-    for book, kind in SAMPLES:
-        values = reference.values(book, kind, most_things, most_size)
-        for hole in holes_of(book):
-            yield book, kind, hole, values
 
 
 class TestCursors(unittest.TestCase):

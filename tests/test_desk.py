@@ -10,22 +10,14 @@ from holekinds.holes import book_by, fill, kind_by, mark, size, spots, things
 from holekinds.text import show_book, show_kind, show_shape, show_value
 from tests import reference
 from tests.samples import (
-    ROUND, ROWS, ROWS_BY_ALL, SAMPLES, THING, TREES, OddText, deep_kind, either, holes_of, name, nested, odd_things,
-    pair, wide_kind)
+    LEAF, ROUND, ROWS, ROWS_BY_ALL, SAMPLES, THING, TREES, OddText, deep_kind, either, holes_of, name,
+    nested, odd_things, pair, row_of, wide_kind)
 
 ROW_BOOK = "book Row = unit | (thing, Row);"
 ROW_EDIT = "edit Row by thing: right((5, right((7, left(())))))"
 ALONE = [
     "next", "former", "first", "last", "out", "in", "undo", "here", "value", "shape", "context", "spots", "number"]
 WITH_REST = ["book", "edit", "put", "counts", "fair", "kind"]
-LEAF = ("left", ())
-
-
-def row_of(*told):
-    value = LEAF
-    for thing in reversed(told):
-        value = ("right", ("pair", thing, value))
-    return value
 
 
 class TestDesk(unittest.TestCase):

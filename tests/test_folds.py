@@ -7,22 +7,10 @@ from holekinds.errors import (
 from holekinds.folds import fold, fold_around, fold_of_part, is_algebra, is_rule
 from holekinds.holes import book_by, fill, kind_by, mark, spots
 from tests import reference
-from tests.rules import WORDS, Numbers, algebra_of, rule_of, samples_with_rules
+from tests.rules import OWN, ROW_SUM, SUMS, TOTAL, WORDS, Numbers, algebra_of, rule_of, samples_with_rules
 from tests.samples import (
-    IDLES, LOST, NONE, ROSES, ROUND, ROW, ROWS, SAMPLES, THING, TREES, UNIT, Odd, OddText, OddTuple, deep_kind,
-    either, holes_of, name, nested, odd_things, pair, wide_kind)
-
-LEAF = ("left", ())
-OWN, TOTAL = ("answer", 1, 0), ("take", 1, 0)
-ROW_SUM = ("case", ("number", 0), ("plus", TOTAL, OWN))
-SUMS = (("Row", ROW_SUM),)
-
-
-def row_of(*told):
-    value = LEAF
-    for thing in reversed(told):
-        value = ("right", ("pair", thing, value))
-    return value
+    IDLES, LEAF, LOST, NONE, ROSES, ROUND, ROW, ROWS, SAMPLES, THING, TREES, UNIT, Odd, OddText, OddTuple,
+    deep_kind, either, holes_of, name, nested, odd_things, pair, row_of, wide_kind)
 
 
 class TestRules(unittest.TestCase):

@@ -8,31 +8,10 @@ from holekinds.errors import InvalidValue, NoSpot
 from holekinds.holes import book_by, fill, kind_by, mark, size, spot_of, spots, things
 from tests import reference
 from tests.samples import (
-    BOXES, IDLES, NONE, ROSES, ROUND, ROW, ROW_BY_ROW, ROW_BY_ROW_BY_ROW, ROW_BY_ROW_BY_THING,
-    ROW_BY_THING, ROW_BY_THING_BY_ROW, ROW_BY_THING_BY_THING, ROWS, ROWS_BY_ALL, ROWS_BY_ROW,
-    ROWS_BY_THING, ROWS_BY_THING_BY_THING, SAMPLES, THING, TREES, UNIT, Odd, deep_kind, either,
-    holes_of, name, nested, odd_things, pair, wide_kind)
-
-LEAF = ("left", ())
-
-
-def row_of(*told):
-    value = LEAF
-    for thing in reversed(told):
-        value = ("right", ("pair", thing, value))
-    return value
-
-
-def node(left, thing, right):
-    return ("right", ("pair", left, ("pair", thing, right)))
-
-
-def samples_with_holes(most_things=2, most_size=4):
-    """Each sample with each hole of its book and each of its small values."""
-    for book, kind in SAMPLES:
-        values = reference.values(book, kind, most_things, most_size)
-        for hole in holes_of(book):
-            yield book, kind, hole, values
+    BOXES, IDLES, LEAF, NONE, ROSES, ROUND, ROW, ROWS, ROWS_BY_ALL, ROWS_BY_ROW, ROWS_BY_THING,
+    ROWS_BY_THING_BY_THING, ROW_BY_ROW, ROW_BY_ROW_BY_ROW, ROW_BY_ROW_BY_THING, ROW_BY_THING,
+    ROW_BY_THING_BY_ROW, ROW_BY_THING_BY_THING, SAMPLES, THING, TREES, UNIT, Odd, deep_kind, either,
+    holes_of, name, nested, node, odd_things, pair, row_of, samples_with_holes, wide_kind)
 
 
 class TestKindsByHoles(unittest.TestCase):

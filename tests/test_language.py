@@ -175,6 +175,14 @@ class TestLanguage(unittest.TestCase):
                         if isinstance(worth, ast.Name):
                             self.assertIn(worth.id, defined, file)
 
+    def test_each_import_is_used(self):
+        for file in FILES:
+            tree = ast.parse(text_of(file))
+            read = {node.id for node in ast.walk(tree) if isinstance(node, ast.Name)}
+            for node in ast.walk(tree):
+                if isinstance(node, ast.ImportFrom):
+                    self.assertLessEqual({one.name for one in node.names}, read, file)
+
     def test_each_name_is_bound_once_at_a_file_s_top(self):
         for file in FILES:
             bound = []

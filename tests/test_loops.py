@@ -6,20 +6,10 @@ from holekinds.folds import fold
 from holekinds.holes import size
 from holekinds.loops import end_of, loop, rounds_of, state
 from tests import reference
-from tests.rules import Numbers, algebra_of, rule_of, samples_with_rules
+from tests.rules import OWN, SUMS, TOTAL, Numbers, algebra_of, rule_of, samples_with_rules
 from tests.samples import (
-    BOXES, IDLES, ROSES, ROWS, SAMPLES, THING, TREES, UNIT, Odd, either, name, nested, odd_things, pair)
-
-LEAF = ("left", ())
-OWN, TOTAL = ("answer", 1, 0), ("take", 1, 0)
-SUMS = (("Row", ("case", ("number", 0), ("plus", TOTAL, OWN))),)
-
-
-def row_of(*told):
-    value = LEAF
-    for thing in reversed(told):
-        value = ("right", ("pair", thing, value))
-    return value
+    BOXES, IDLES, LEAF, ROSES, ROWS, SAMPLES, THING, TREES, UNIT, Odd, either, name, nested, odd_things,
+    pair, row_of)
 
 
 class TestStates(unittest.TestCase):

@@ -9,24 +9,12 @@ from holekinds.holes import book_by, fill, kind_by, mark, size, spots, things
 from holekinds.twoholes import fill_two, mark_two, spots_of_two, turned_about
 from tests import reference
 from tests.samples import (
-    BOXES, LOST, ROSES, ROUND, ROWS, SAMPLES, THING, TREES, UNIT, Odd, either, holes_of, name, nested,
-    odd_things, pair)
+    BOXES, LEAF, LOST, ROSES, ROUND, ROWS, SAMPLES, THING, TREES, UNIT, Odd, either, holes_of, name, nested,
+    node, odd_things, pair, row_of)
 
-LEAF = ("left", ())
 # Names that come to themselves by names alone, and by a pair, too; W has no values.
 TURNS = (
     ("V", either(UNIT, pair(name("V"), pair(THING, name("W"))))), ("W", name("X")), ("X", name("W")))
-
-
-def row_of(*told):
-    value = LEAF
-    for thing in reversed(told):
-        value = ("right", ("pair", thing, value))
-    return value
-
-
-def node(left, thing, right):
-    return ("right", ("pair", left, ("pair", thing, right)))
 
 
 def samples_with_two():
